@@ -1,0 +1,1 @@
+"""Turnedvalleys: rows whose valleys are turned about."""
