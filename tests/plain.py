@@ -116,20 +116,29 @@ def turned(row, i, j):
     return Row(stones, ends=row.ends, rule=row.rule)
 
 
-def distances(row):
-    """The stones of each row of the class, with the fewest turns from row, by trying turn after turn."""
+def reached(row, neighbours):
+    """The stones of each Row that is reached from row, with the fewest steps, by trying step after step."""
     found = {row.stones: 0}
     layer = [row]
     while layer:
         nearer = layer
         layer = []
         for one in nearer:
-            for i, j in stretches(one):
-                two = turned(one, i, j)
+            for two in neighbours(one):
                 if two.stones not in found:
                     found[two.stones] = found[one.stones] + 1
                     layer.append(two)
     return found
+
+
+def one_turn(row):
+    """The Rows after one turn."""
+    return [turned(row, i, j) for i, j in stretches(row)]
+
+
+def distances(row):
+    """The stones of each row of the class, with the fewest turns from row."""
+    return reached(row, one_turn)
 
 
 def walked(row, run):

@@ -13,6 +13,16 @@ INTERFACE = {
                 "free_heads(row)", "held_heads(row)"),
     "stretches": ("stretches(row)", "stretch_of(row, x)", "head_at(row, i, j)"),
     "turning": ("turned(row, x)",),
+    "runs": ("walked(row, run)", "trail(row, run)", "trimmed(row, run)", "run_right(one, run, two)", "back(run)"),
+    "senses": ("sense(row, x)", "senses(row)"),
+    "shapes": ("shape(row)", "shape_right(triples, ends)"),
+    "building": ("row_of(triples, bits, *, ends=0, rule=None)",),
+    "kin": ("same(one, two)", "dimension(row)", "class_size(row)", "normal(row)"),
+    "fewest": ("unlike_heads(one, two)", "fewest(one, two)", "run_to(one, two)"),
+    "rounds": ("round_turned(row, together)", "rounds_walked(row, rounds)", "rounds_run(one, two)",
+               "fewest_rounds(one, two)"),
+    "prices": ("price_of(row, run, prices)", "least_price(one, two, prices)"),
+    "orders": ("shortest_count(one, two)", "shortest_at(one, two, k)", "runs_of(one, two, k)", "ball(row)"),
 }
 
 

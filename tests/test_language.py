@@ -97,12 +97,22 @@ class TestLanguage(unittest.TestCase):
                 self.assertEqual(getattr(node, "decorator_list", []), [])
 
     def test_builtins(self):
-        for _, tree in self.trees():
+        for file, tree in self.trees():
             names = own_names(tree)
-            self.assertEqual({name for name in names if hasattr(builtins, name)} - {"__init__"}, set())
+            self.assertEqual({name for name in names if hasattr(builtins, name)} - {"__init__"}, set(), file.name)
             for node in ast.walk(tree):
                 if isinstance(node, ast.Name) and node.id not in names:
                     self.assertIn(node.id, BUILTINS)
+
+    def test_no_local_name_is_that_of_an_import_or_a_class(self):
+        for _, tree in self.trees():
+            taken = {alias.name for node in tree.body if isinstance(node, ast.ImportFrom) for alias in node.names}
+            taken |= {node.name for node in tree.body if isinstance(node, ast.ClassDef)}
+            for node in ast.walk(tree):
+                if isinstance(node, ast.arg):
+                    self.assertNotIn(node.arg, taken)
+                elif isinstance(node, ast.Name) and isinstance(node.ctx, ast.Store):
+                    self.assertNotIn(node.id, taken)
 
     def test_methods(self):
         own = own_methods()

@@ -25,7 +25,7 @@ def subset_number(size, places):
     many = len(places)
     before = -1
     for i, place in enumerate(places):
-        if not 0 <= place < size or place <= before:
+        if not before < place < size:
             raise BadSubset(i)
         before = place
     number = 0
