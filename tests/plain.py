@@ -131,6 +131,11 @@ def reached(row, neighbours):
     return found
 
 
+def like(row, stones):
+    """The Row of these stones with the ends and the rule of row."""
+    return Row(stones, ends=row.ends, rule=row.rule)
+
+
 def one_turn(row):
     """The Rows after one turn."""
     return [turned(row, i, j) for i, j in stretches(row)]
@@ -139,6 +144,29 @@ def one_turn(row):
 def distances(row):
     """The stones of each row of the class, with the fewest turns from row."""
     return reached(row, one_turn)
+
+
+def classes(most, rules=(None,), least=1):
+    """Each class of Rows of few stones once, as the list of its Rows, ascending by their stones."""
+    for n in range(least, most + 1):
+        for ends in ENDS:
+            for rule in rules:
+                yield from classes_of(range(n), ends, rule)
+
+
+def classes_of(stones, ends, rule):
+    """Each class of Rows of these stones, as the list of its Rows, ascending by their stones."""
+    seen = set()
+    for order in permutations(stones):
+        if order not in seen:
+            found = class_of(Row(order, ends=ends, rule=rule))
+            seen.update(row.stones for row in found)
+            yield found
+
+
+def class_of(row):
+    """All Rows of the class of row, ascending by their stones."""
+    return [like(row, stones) for stones in sorted(distances(row))]
 
 
 def walked(row, run):
@@ -175,3 +203,56 @@ def shape(row):
             s = 1
         triples.append((x, p, s))
     return tuple(triples)
+
+
+def ahead(row, x, y):
+    """Whether x stands ahead of y."""
+    return row.stones.index(x) < row.stones.index(y)
+
+
+def side(row, x):
+    """The side of a head, by the words of the document."""
+    return 0 if ahead(row, max(y for y in lot(row, x) if y != x), x) else 1
+
+
+def meets(row, x, y):
+    """The greatest stone from x to y."""
+    i, j = row.stones.index(x), row.stones.index(y)
+    return max(row.stones[min(i, j):max(i, j) + 1])
+
+
+def leader(row, x):
+    """The leader of a head, by the words of the document."""
+    if x in free_heads(row):
+        return x
+    p = parent(row, x)
+    return leader(row, p) if p is not None and is_head(row, p) else None
+
+
+def keeps(row, wishes):
+    """Whether row keeps all wishes."""
+    return all(ahead(row, x, y) for x, y in wishes)
+
+
+def measure(row, kind):
+    """The value of a row, by the words of the document."""
+    stones = row.stones
+    pairs = [(i, j) for j in range(len(stones)) for i in range(j)]
+    if kind == ("falls",):
+        return sum(stones[i] > stones[j] for i, j in pairs if j == i + 1)
+    if kind == ("wrong",):
+        return sum(stones[i] > stones[j] for i, j in pairs)
+    if kind[0] == "place":
+        return stones.index(kind[1])
+    return int(ahead(row, kind[1], kind[2]))
+
+
+def kinds(row):
+    """All kinds for a row."""
+    yield ("falls",)
+    yield ("wrong",)
+    for x in row.stones:
+        yield ("place", x)
+        for y in row.stones:
+            if x != y:
+                yield ("ahead", x, y)

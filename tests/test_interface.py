@@ -23,6 +23,16 @@ INTERFACE = {
                "fewest_rounds(one, two)"),
     "prices": ("price_of(row, run, prices)", "least_price(one, two, prices)"),
     "orders": ("shortest_count(one, two)", "shortest_at(one, two, k)", "runs_of(one, two, k)", "ball(row)"),
+    "middles": ("between(one, mid, two)", "middle(one, two, three)", "meeting_sum(rows, weights)",
+                "meeting_row(rows, weights)", "meeting_many(rows, weights)", "hull_size(rows)", "in_hull(rows, row)"),
+    "tours": ("tour(row)", "tour_row(row, k)", "tour_number(row, other)"),
+    "nopapers": ("paper(one, two)", "paper_right(one, two, paper)"),
+    "mending": ("mended(row, run, goal)",),
+    "sides": ("side(row, x)", "meets(row, x, y)"),
+    "leads": ("leader(row, x)", "order_of(row, x, y)"),
+    "wishes": ("wishes_right(row, wishes)", "wishes_count(row, wishes)", "wishes_clash(row, wishes)"),
+    "wishrows": ("wishes_fewest(row, wishes)", "wishes_row(row, wishes)", "wishes_first(row, wishes)"),
+    "kinds": ("measure(row, kind)",),
 }
 
 

@@ -1,4 +1,4 @@
-"""[10]: same, dimension, class_size, normal; [0.2]: rows of one class; [0.3] (a), (b), (d)."""
+"""[10]: same, dimension, class_size, normal; [0.3] (a), (b), (d)."""
 
 import unittest
 from itertools import permutations
@@ -6,8 +6,8 @@ from itertools import permutations
 from tests import plain
 from tests.refusing import RefusingTest
 from tests.strangers import NOT_SAME, UNLIKE
-from turnedvalleys.errors import NotSame, Unlike
-from turnedvalleys.kin import check_class, class_size, dimension, normal, same
+from turnedvalleys.errors import Unlike
+from turnedvalleys.kin import class_size, dimension, normal, same
 from turnedvalleys.rows import Row
 from turnedvalleys.senses import senses
 
@@ -82,18 +82,6 @@ class TestClasses(RefusingTest):
     def test_names_of_arguments(self):
         row = plain.example()
         self.assertEqual((dimension(row=row), class_size(row=row), normal(row=row).stones[1]), (3, 8, 1))
-
-
-class TestRowsOfOneClass(RefusingTest):
-    def test_one_after_the_other_with_the_first(self):
-        one = Row((1, 2), ends=3)
-        kin = Row((2, 1), ends=3)
-        held = Row((1, 2), ends=3, rule=())
-        self.assertIsNone(check_class((one, kin, one)))
-        self.refused(Unlike, "stones", check_class, (one, kin, Row((1, 3), ends=3)))
-        self.refused(NotSame, 2, check_class, (held, held, Row((2, 1), ends=3, rule=())))
-        self.refused(NotSame, 1, check_class, (held, Row((2, 1), ends=3, rule=()), one))
-        self.refused(Unlike, "rule", check_class, (held, one, Row((2, 1), ends=3, rule=())))
 
 
 if __name__ == "__main__":

@@ -42,6 +42,11 @@ def class_size(row):
     return 1 << dimension(row)
 
 
+def row_with(row, bit_of):
+    """The Row of the class whose free heads have the senses bit_of."""
+    return walked(row, tuple([x for x in free_heads(row) if sense_of(row, x) != bit_of[x]]))
+
+
 def normal(row):
     """The Row of the class whose free heads all have the sense 0."""
-    return walked(row, tuple([x for x in free_heads(row) if sense_of(row, x) == 1]))
+    return row_with(row, {x: 0 for x in free_heads(row)})

@@ -1,7 +1,7 @@
 """Rows of stones, with their ends and their rule."""
 
 from turnedvalleys.errors import BadEnds, BadRule, BadSize, BadStone
-from turnedvalleys.forms import fits
+from turnedvalleys.forms import fits, is_number
 
 
 def check_stones(stones):
@@ -74,3 +74,13 @@ class Row:
 def row_like(row, stones):
     """The Row of these stones with the ends and the rule of row."""
     return Row(stones, ends=row.ends, rule=row.rule)
+
+
+def is_stone(row, value):
+    """Whether a value of any kind is a stone of row."""
+    return is_number(value) and value in row
+
+
+def is_ahead(row, x, y):
+    """Whether the stone x stands ahead of the stone y."""
+    return row.place(x) < row.place(y)

@@ -3,15 +3,19 @@
 from turnedvalleys.errors import BadHead
 from turnedvalleys.forests import heads, parent
 from turnedvalleys.lots import lot
+from turnedvalleys.rows import is_ahead
+
+
+def greatest_beneath(row, x):
+    """The greatest stone of the lot of a head x but x."""
+    return max([y for y in lot(row, x) if y != x])
 
 
 def sense_of(row, x):
     """The sense of x, which is a head of row."""
-    place = row.place(x)
-    greatest = max([y for y in lot(row, x) if y != x])
     p = parent(row, x)
-    greatest_ahead = row.place(greatest) < place
-    x_ahead = p is None or place < row.place(p)
+    greatest_ahead = is_ahead(row, greatest_beneath(row, x), x)
+    x_ahead = p is None or is_ahead(row, x, p)
     return 0 if greatest_ahead == x_ahead else 1
 
 

@@ -2,14 +2,14 @@
 
 from turnedvalleys.forests import is_record, parent
 from turnedvalleys.forms import fits, is_number
-from turnedvalleys.rows import check_ends, open_ahead, open_behind
+from turnedvalleys.rows import check_ends, is_ahead, open_ahead, open_behind
 
 
 def side_of(row, x, p):
     """What the triple of x says of the side on which it stands of its parent p."""
     if p is None or not is_record(row, p):
         return -1
-    return 0 if row.place(x) < row.place(p) else 1
+    return 0 if is_ahead(row, x, p) else 1
 
 
 def triple_of(row, x):
