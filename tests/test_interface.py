@@ -33,6 +33,14 @@ INTERFACE = {
     "wishes": ("wishes_right(row, wishes)", "wishes_count(row, wishes)", "wishes_clash(row, wishes)"),
     "wishrows": ("wishes_fewest(row, wishes)", "wishes_row(row, wishes)", "wishes_first(row, wishes)"),
     "kinds": ("measure(row, kind)",),
+    "tallies": ("deltas(row, kind)", "tally(row, kind)", "spread(row, kind)"),
+    "nearest": ("fewest_with(row, kind, value)", "run_with(row, kind, value)"),
+    "begins": ("begins(row, prefix)",),
+    "ranks": ("number_of(row)", "row_at(row, k)"),
+    "classcounts": ("class_count(n, *, ends=0, rule=None)",),
+    "census": ("census(n, *, ends=0, rule=None)",),
+    "classnumbers": ("class_number(row)", "class_at(stones, k, *, ends=0, rule=None)"),
+    "highs": ("high(row, least)", "lot_row(row, x)"),
 }
 
 

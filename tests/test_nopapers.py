@@ -218,6 +218,14 @@ class TestPaperRight(RefusingTest):
                 self.assertIs(paper_right(one, two, said), False)
         every = tuple(range(2, 41))
         self.assertIs(paper_right(Row((1, 2), rule=every), Row((2, 1)), ("order", 1, 2)), False)
+        self.assertIs(paper_right(Row((1, 2)), Row((2, 1), rule=every), ("order", 1, 2)), False)
+        for ends in (1, 2, 3):
+            self.assertIs(paper_right(Row((1, 2)), Row((2, 1), ends=ends), ("order", 1, 2)), False)
+            self.assertIs(paper_right(Row((2, 1), ends=ends), Row((1, 2)), ("order", 1, 2)), False)
+            self.assertIs(paper_right(Row((1, 3, 2), ends=ends), Row((3, 1, 2)), ("lot", 2)), False)
+        self.assertIs(paper_right(Row((1, 2, 5)), Row((2, 1, 6)), ("order", 1, 2)), False)
+        self.assertIs(paper_right(Row((1, 2, 5)), Row((2, 1)), ("order", 1, 2)), False)
+        self.assertIs(paper_right(Row((1, 3, 2), ends=3), Row((4, 1, 2), ends=3), ("lot", 2)), False)
         self.assertIs(paper_right(Row((1, 2), rule=every), Row((2, 1), rule=every), ("order", 1, 2)), True)
 
 

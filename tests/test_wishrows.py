@@ -1,7 +1,7 @@
 """[22]: wishes_fewest, wishes_row, wishes_first."""
 
 import unittest
-from itertools import permutations, product
+from itertools import combinations, permutations, product
 
 from tests import plain
 from tests.refusing import RefusingTest
@@ -61,6 +61,22 @@ class TestWishRows(RefusingTest):
                         self.look_at_all(rows, row, far, orders[::step])
                         self.look_at_all(rows, row, far, orders[1::step])
                     self.look_at_all(rows, row, far, beside(one.stones)[2:])
+
+    def test_one_turn_for_several_heads_beneath(self):
+        # The heads 1, 3 and 5 all ask the other side, and so does the lot of 6 or of 8 with just one turn.
+        row = Row((0, 1, 6, 2, 3, 8, 4, 5), ends=3)
+        self.assertEqual(wishes_fewest(row, ((1, 0), (3, 2))), 1)
+        self.assertEqual(wishes_row(row, ((1, 0), (3, 2))).stones, (3, 2, 6, 1, 0, 8, 4, 5))
+        self.assertEqual(wishes_fewest(row, ((1, 0), (3, 2), (5, 4))), 1)
+        self.assertEqual(wishes_fewest(row, ((1, 0), (3, 2), (5, 4), (0, 8))), 2)
+        for rule in (None, (2,), (2, 5), (2, 8)):
+            row = Row((0, 1, 6, 2, 3, 8, 4, 5), ends=3, rule=rule)
+            rows = plain.class_of(row)
+            far = plain.distances(row)
+            lesser = ((1, 0), (3, 2), (5, 4), (2, 6), (5, 8), (1, 3), (0, 1), (8, 6))
+            for many in (2, 3, 4):
+                for some in combinations(lesser, many):
+                    self.look_at_all(rows, row, far, some)
 
     def test_rows_of_nine_and_ten_stones(self):
         for stones, ends in ((plain.EXAMPLE, 3), (tuple(range(10)), 3), ((5, 1, 0, 9, 4, 2, 3, 8, 7, 6), 1),
