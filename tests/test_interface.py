@@ -41,6 +41,15 @@ INTERFACE = {
     "census": ("census(n, *, ends=0, rule=None)",),
     "classnumbers": ("class_number(row)", "class_at(stones, k, *, ends=0, rule=None)"),
     "highs": ("high(row, least)", "lot_row(row, x)"),
+    "growth": ("with_least(row, x, place)", "growths(row)"),
+    "joins": ("joined(one, top, two)",),
+    "likerows": ("LikeRow(stones, *, ends=0)", "like_stretches(row)"),
+    "likedeeds": ("like_turned(row, i, j)", "like_walked(row, run)", "like_run_right(one, run, two)"),
+    "likeparts": ("tops(row)", "like_parts(row)"),
+    "settling": ("settled(row)", "like_same(one, two)", "like_size(row)"),
+    "likefewest": ("like_fewest(one, two)", "like_run(one, two)"),
+    "likecounts": ("like_count(counts, *, ends=0)",),
+    "coarsening": ("coarse(row, cuts)",),
 }
 
 

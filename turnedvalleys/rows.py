@@ -4,9 +4,9 @@ from turnedvalleys.errors import BadEnds, BadRule, BadSize, BadStone
 from turnedvalleys.forms import fits, is_number
 
 
-def check_stones(stones):
-    """Raise BadSize or BadStone unless a row may have these stones."""
-    if not 1 <= len(stones) <= 40:
+def check_stones(stones, fewest):
+    """Raise BadSize or BadStone unless these are different stones, so many or more, and at most 40."""
+    if not fewest <= len(stones) <= 40:
         raise BadSize(len(stones))
     seen = set()
     for i, x in enumerate(stones):
@@ -51,7 +51,7 @@ class Row:
     """A row of different stones."""
 
     def __init__(self, stones, *, ends=0, rule=None):
-        check_stones(stones)
+        check_stones(stones, 1)
         check_ends(ends)
         check_rule(rule)
         self.stones = stones
