@@ -50,6 +50,24 @@ INTERFACE = {
     "likefewest": ("like_fewest(one, two)", "like_run(one, two)"),
     "likecounts": ("like_count(counts, *, ends=0)",),
     "coarsening": ("coarse(row, cuts)",),
+    "rings": ("Ring(stones, *, rule=None)", "ring_stretches(ring)", "ring_row(ring)", "ring_turned(ring, x)",
+              "ring_walked(ring, run)"),
+    "ringkin": ("ring_same(one, two)", "ring_fewest(one, two)", "ring_count(n, *, rule=None)"),
+    "opening": ("opened(ring, place)",),
+    "rowtext": ("row_text(row)", "row_from(text)"),
+    "runtext": ("run_text(run)", "run_from(text)"),
+    "othertexts": ("like_text(row)", "like_from(text)", "ring_text(ring)", "ring_from(text)", "paper_text(paper)",
+                   "paper_from(text)"),
+    "house": ("House(row)",),
+    "houseasks": ("can(house)", "left(house)", "way(house)", "why(house)"),
+    "sayshouse": ("told(house, words)",),
+}
+
+# The methods of the classes, which must stand in the class itself.
+METHODS = {
+    "rows": ("Row", ("place(self, x)",)),
+    "house": ("House", ("row(self)", "goal(self)", "deeds(self)", "turn(self, x)", "lay(self, run)",
+                        "put(self, x, place)", "take(self, x)", "aim(self, stones)", "undo(self)", "redo(self)")),
 }
 
 
@@ -63,6 +81,14 @@ class TestInterface(unittest.TestCase):
                     found = getattr(module, name)
                     self.assertEqual(found.__module__, module.__name__)
                     self.assertEqual(name + str(inspect.signature(found)), words)
+
+    def test_methods(self):
+        for file, (name, said) in METHODS.items():
+            owner = getattr(importlib.import_module("turnedvalleys." + file), name)
+            for words in said:
+                with self.subTest(name, words=words):
+                    method = words.partition("(")[0]
+                    self.assertEqual(method + str(inspect.signature(vars(owner)[method])), words)
 
 
 if __name__ == "__main__":

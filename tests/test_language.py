@@ -2,6 +2,7 @@
 
 import ast
 import builtins
+import re
 import unittest
 import warnings
 from pathlib import Path
@@ -12,9 +13,18 @@ FILES = sorted(FOLDER.glob("*.py"))
 LIBRARY = {"math": {"gcd", "lcm", "isqrt", "comb", "perm", "factorial"}}
 BUILTINS = set("""len range enumerate zip min max sum abs sorted reversed int str bool list tuple dict set isinstance
 ord repr any all divmod iter ValueError""".split())
+# Names that no file has.
+BARRED = set("""register mro elements open input law version_info with_traceback add_note attrgetter breakpoint builtins
+compile copyright credits delattr dir eval exec exit gc getattr globals hasattr help id importlib license locals
+methodcaller os quit setattr super sys vars print map filter next""".split())
+# Words that stand in no name and no text, but for docstrings.
+WORDS = set("""type typing typing_extensions enum Enum IntEnum StrEnum Flag IntFlag Generic Protocol ABC ABCMeta
+namedtuple NamedTuple TypedDict TYPE_CHECKING abstractmethod dataclass overload contextmanager""".split())
 METHODS = set("""append clear copy count endswith extend find get index insert isalnum isalpha isdigit islower isspace
 isupper items join keys ljust lower lstrip partition pop remove replace reverse rfind rjust rpartition rsplit rstrip
 setdefault split splitlines startswith strip update upper values zfill bit_length add discard""".split())
+PLAIN_NAME = re.compile(r"_?[A-Za-z][A-Za-z0-9_]*")
+DOUBLE = {"__init__", "__contains__", "__iter__"}
 MODULE_LEVEL = (ast.ImportFrom, ast.FunctionDef, ast.ClassDef, ast.Assign)
 REFUSED = (ast.AsyncFunctionDef, ast.Await, ast.Global, ast.Div, ast.JoinedStr, ast.Import, ast.Yield, ast.YieldFrom,
            ast.GeneratorExp, ast.MatMult)
@@ -33,6 +43,26 @@ def own_names(tree):
         elif isinstance(node, ast.alias):
             found.add(node.asname or node.name)
     return found
+
+
+def all_names(tree):
+    """All names in a file, those of attributes and keywords with them."""
+    found = own_names(tree)
+    for node in ast.walk(tree):
+        if isinstance(node, ast.Name):
+            found.add(node.id)
+        elif isinstance(node, ast.Attribute):
+            found.add(node.attr)
+        elif isinstance(node, ast.keyword):
+            found.add(node.arg)
+    return found
+
+
+def texts_of(tree):
+    """All texts in a file but docstrings."""
+    docstrings = [node.value for node in ast.walk(tree) if isinstance(node, ast.Expr)]
+    return [node.value for node in ast.walk(tree)
+            if isinstance(node, ast.Constant) and isinstance(node.value, str) and node not in docstrings]
 
 
 def own_methods():
@@ -113,6 +143,34 @@ class TestLanguage(unittest.TestCase):
                     self.assertNotIn(node.arg, taken)
                 elif isinstance(node, ast.Name) and isinstance(node.ctx, ast.Store):
                     self.assertNotIn(node.id, taken)
+
+    def test_names(self):
+        for file, tree in self.trees():
+            for name in all_names(tree):
+                with self.subTest(file.name, name=name):
+                    self.assertTrue(name in DOUBLE or PLAIN_NAME.fullmatch(name) or name == "_")
+                    self.assertNotIn(name, BARRED | WORDS)
+
+    def test_texts(self):
+        for file, tree in self.trees():
+            for text in texts_of(tree):
+                with self.subTest(file.name, text=text):
+                    self.assertNotIn("%", text)
+                    self.assertEqual(WORDS & set(re.findall(r"\w+", text)), set())
+
+    def test_tables_are_only_looked_up(self):
+        for file, tree in self.trees():
+            tables = {node.targets[0].id for node in tree.body
+                      if isinstance(node, ast.Assign) and isinstance(node.value, (ast.Dict, ast.List))}
+            looked_up = []
+            for node in ast.walk(tree):
+                if isinstance(node, ast.Subscript):
+                    looked_up.append(node.value)
+                elif isinstance(node, ast.Compare):
+                    looked_up += node.comparators
+            for node in ast.walk(tree):
+                if isinstance(node, ast.Name) and node.id in tables and isinstance(node.ctx, ast.Load):
+                    self.assertTrue(any(node is other for other in looked_up), (file.name, node.lineno))
 
     def test_methods(self):
         own = own_methods()

@@ -1,6 +1,6 @@
 """Like rows that tell stones apart only by cuts."""
 
-from turnedvalleys.errors import BadCuts, BadSize
+from turnedvalleys.errors import BadCuts
 from turnedvalleys.likerows import LikeRow
 
 
@@ -14,6 +14,5 @@ def check_cuts(cuts):
 def coarse(row, cuts):
     """The LikeRow in which each stone is the number of cuts that are not greater than it."""
     check_cuts(cuts)
-    if len(row.stones) > 24:
-        raise BadSize(len(row.stones))
+    # A LikeRow refuses more than 24 stones by itself.
     return LikeRow(tuple([len([cut for cut in cuts if cut <= x]) for x in row]), ends=row.ends)
