@@ -21,7 +21,7 @@ class Tables:
 
 
 def within(content):
-    """All contents within a content; those without a stone stand ahead of all with it and lesser ones."""
+    """All contents within a content, ascending by how often the greatest stone stands, then the next one, and so on."""
     found = [()]
     for many in content:
         found = [some + (k,) for k in range(many + 1) for some in found]
@@ -88,6 +88,7 @@ def chain_count(tables, m, content):
 def tables_for(content, most):
     """The tables for all contents within a content, with chains of at most so many parts."""
     tables = Tables()
+    # In this order each content comes after all those within it, and all that its own numbers need are there.
     for some in within(content):
         if any([many > 0 for many in some]):
             k, rest = without_top(some)
